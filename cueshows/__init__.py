@@ -1,0 +1,1 @@
+"""Cues and shows: tricks on shared props, checked, ordered and performed."""
