@@ -1,16 +1,14 @@
-"""The calls 7 to 9: start, begin, send."""
+"""The calls 7, 8, 14 and 19: start, begin, finish, close."""
 
-from cueshows.beliefs import is_sure
+from cueshows.beliefs import is_sure, left_by
 from cueshows.conditions import are_conditions, holds, within
 from cueshows.house import LAST_ITEM, is_trick, item_at
-from cueshows.line import NO_ITEM, Cue, Show
+from cueshows.line import NO_ITEM, Done, Show, refusal_unless_doing
 from cueshows.refusals import (
-    BUSY_OR_IDLE, CANNOT_BE, FULL, NOT_SURE, NO_CUE_WANTED, NO_SUCH,
+    BUSY_OR_IDLE, CANNOT_BE, NOT_AT_ITS_END, NOT_SURE, NO_SUCH,
     OUT_OF_RANGE, OVER_LIMIT, SHOW_ON_OR_OFF, TRICK_WAS_DONE, WRONG_LIST,
 )
-
-MOST_VALUE = 99
-MOST_CUES = 20
+from cueshows.rescue import is_rescued, waits_for_cue, way_taken
 
 
 def answer_start(line, actual):
@@ -23,6 +21,10 @@ def answer_start(line, actual):
     return [0]
 
 
+def was_done(show, number):
+    return any([done.number == number for done in show.done])
+
+
 def refusal_of_begin(house, show, number):
     """Why the item can't be begun in this show, 0 if it can."""
     if show.doing != NO_ITEM:
@@ -30,7 +32,7 @@ def refusal_of_begin(house, show, number):
     item = item_at(house, number)
     if item is None:
         return NO_SUCH
-    if is_trick(number) and number in show.done:
+    if is_trick(number) and was_done(show, number):
         return TRICK_WAS_DONE
     if not is_sure(item, show.beliefs):
         return NOT_SURE
@@ -48,30 +50,46 @@ def answer_begin(line, number):
     refusal = refusal_of_begin(line.house, show, number)
     if refusal != 0:
         return [refusal]
-    show.doing = number
-    show.sent = 0
+    show.turn_to(number)
     if not is_trick(number):
         return [0]
     show.serial += 1
     return [show.serial]
 
 
-def answer_send(line, value):
+def can_be_left(leave, before, actual):
+    """Whether each condition is in its leaving set, or, where that's 0, what it was before."""
+    return all([was == now if left == 0 else holds(left, now) for left, was, now in zip(leave, before, actual)])
+
+
+def answer_finish(line, actual):
+    house = line.house
     show = line.show
-    if not within(value, 0, MOST_VALUE):
-        return [OUT_OF_RANGE]
-    if show is None:
+    if not are_conditions(actual, house.props):
+        return [WRONG_LIST]
+    refusal = refusal_unless_doing(line)
+    if refusal != 0:
+        return [refusal]
+    if waits_for_cue(house, show):
+        return [NOT_AT_ITS_END]
+    leave = way_taken(house, show)
+    if not can_be_left(leave, show.actual, actual):
+        return [CANNOT_BE]
+    rescued = is_rescued(house, show)
+    show.actual = actual
+    show.beliefs = left_by(leave, show.beliefs)
+    show.minutes += item_at(house, show.doing).minutes
+    show.done.append(Done(show.doing, show.taken, rescued))
+    show.turn_to(NO_ITEM)
+    return [1 if rescued else 0]
+
+
+def answer_close(line):
+    if line.show is None:
         return [SHOW_ON_OR_OFF]
-    if show.doing == NO_ITEM:
-        return [BUSY_OR_IDLE]
-    # A reset has the wait 0 as well.
-    if item_at(line.house, show.doing).wait == 0:
-        return [NO_CUE_WANTED]
-    if len(show.wire) == MOST_CUES:
-        return [FULL]
-    show.sent += 1
-    show.wire.append(Cue(show.serial, show.sent, value))
-    return [show.sent]
+    count = len(line.show.done)
+    line.show = None
+    return [count]
 
 
 def answer_show_call(line, call, numbers, rows):
@@ -79,4 +97,6 @@ def answer_show_call(line, call, numbers, rows):
         return answer_start(line, rows[0])
     if call == 8:
         return answer_begin(line, numbers[0])
-    return answer_send(line, numbers[0])
+    if call == 14:
+        return answer_finish(line, rows[0])
+    return answer_close(line)

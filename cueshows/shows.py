@@ -1,12 +1,16 @@
 """The calls of a line, one behind another, and what they answer."""
 
+from cueshows.cue_calls import answer_cue_call
 from cueshows.line import Line
+from cueshows.look_calls import answer_look_call
 from cueshows.plan_calls import answer_plan_call
 from cueshows.setup_calls import answer_setup_call
 from cueshows.show_calls import answer_show_call
 
 LAST_SETUP_CALL = 4
 LAST_PLAN_CALL = 6
+CUE_CALLS = (9, 10, 11, 12, 13)
+LOOK_CALLS = (15, 16, 17, 18)
 
 # Of each call how many whole numbers it has, and how many rows behind them.
 SHAPES = {
@@ -20,6 +24,16 @@ SHAPES = {
     7: (0, 1),
     8: (1, 0),
     9: (1, 0),
+    10: (1, 0),
+    11: (1, 0),
+    12: (1, 0),
+    13: (1, 0),
+    14: (0, 1),
+    15: (1, 0),
+    16: (0, 0),
+    17: (0, 0),
+    18: (0, 0),
+    19: (0, 0),
 }
 
 
@@ -50,6 +64,10 @@ def answer_call(line, call, numbers, rows):
         return answer_setup_call(line, call, numbers, rows)
     if call <= LAST_PLAN_CALL:
         return answer_plan_call(line, call, numbers, rows)
+    if call in CUE_CALLS:
+        return answer_cue_call(line, call, numbers)
+    if call in LOOK_CALLS:
+        return answer_look_call(line, call, numbers)
     return answer_show_call(line, call, numbers, rows)
 
 

@@ -49,6 +49,46 @@ def send(value):
     return [9, value]
 
 
+def lose(place):
+    return [10, place]
+
+
+def double(place):
+    return [11, place]
+
+
+def deliver(place):
+    return [12, place]
+
+
+def tick(ticks):
+    return [13, ticks]
+
+
+def finish(actual):
+    return [14] + row(actual)
+
+
+def glance(prop):
+    return [15, prop]
+
+
+def state():
+    return [16]
+
+
+def log():
+    return [17]
+
+
+def wire():
+    return [18]
+
+
+def close():
+    return [19]
+
+
 def joined(calls):
     return [number for call in calls for number in call]
 
@@ -81,3 +121,13 @@ def ask(*calls):
 
 def last(*calls):
     return ask(*calls)[-1]
+
+
+def behind(before, *calls):
+    """The answers of these calls alone, behind those of the list before."""
+    return ask(*(list(before) + list(calls)))[len(before):]
+
+
+def all_seen(before, props_there=0):
+    """All that can be asked behind these calls: first what changes nothing, then each prop's actual condition."""
+    return behind(before, state(), log(), wire(), told(), *[glance(prop) for prop in range(props_there)])

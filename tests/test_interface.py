@@ -1,9 +1,13 @@
 """What is handed in stays as it is, and nothing is kept from one time to the next."""
 
 import inspect
+import time
 import unittest
 
-from helper import ask, begin, hall, joined, plan, props, reset, runs, send, start, told, trick
+from helper import (
+    ask, begin, close, deliver, double, finish, glance, hall, joined, log, lose, plan, props, reset, runs, send, start,
+    state, tick, told, trick, wire,
+)
 from cueshows import shows
 from cueshows.shows import answers
 
@@ -26,6 +30,22 @@ WHOLE_LINE = [
     send(43),
     props([2]),
     told(),
+    double(1),
+    tick(1),
+    wire(),
+    lose(0),
+    deliver(1),
+    state(),
+    finish([2, 1]),
+    finish([1, 1]),
+    begin(8),
+    glance(0),
+    glance(1),
+    finish([0, 0]),
+    log(),
+    state(),
+    close(),
+    state(),
 ]
 
 WHOLE_ANSWERS = [
@@ -47,6 +67,22 @@ WHOLE_ANSWERS = [
     1, 2,
     1, -3,
     30, 2, 3, 2, 2, 4, 2, 1, 3, 2, 0, 4, 0, 5, 0, 1, 1, 1, 2, 0, 0, 1, 3, 7, 3, 1, 1, 20, 3, 1, 3,
+    1, 3,
+    2, 0, 3,
+    13, 3, 1, 1, 42, 1, 1, 2, 43, 1, 1, 2, 43, 1,
+    1, 2,
+    2, 1, 43,
+    8, 0, 1, 1, 43, 0, 0, 1, 3,
+    1, -8,
+    1, 0,
+    1, 0,
+    1, 1,
+    1, 1,
+    1, 0,
+    7, 2, 0, 43, 0, 8, -1, 0,
+    8, -1, 1, 0, -1, 0, 7, 1, 1,
+    1, 2,
+    1, -3,
 ]
 
 
@@ -102,11 +138,27 @@ class Interface(unittest.TestCase):
         self.assertEqual(len(found), 200)
         self.assertEqual(found[-1], [4, 6, 6, 6, 6, 8] + ([60, 20] + [63] * 12) * 8 + [0, 0, 0] + [63] * 4)
 
+    def test_200_calls_with_20_plans_of_200_steps_and_shows(self):
+        full = [63, 63, 63, 63]
+        calls = [props([6, 6, 6, 6])]
+        for number in range(8):
+            calls.append(trick(7 + number, 3, full, [1 << number % 6, 3, 0, 7], [0, 1 << number % 5, 9, 0]))
+        for number in range(6):
+            calls.append(reset(1 + number, full, [1 << number, 0, 1 << 5 - number, 0]))
+        calls += [hall(480, 20, full), start([5, 4, 3, 2]), begin(7)] + [send(1)] * 20
+        calls += [plan(200), state(), wire(), tick(1), log(), told(), double(0), glance(3)] * 20
+        begun = time.monotonic()
+        found = ask(*(calls + [close()] + [wire()]))
+        self.assertLess(time.monotonic() - begun, 20)
+        self.assertEqual(len(found), 200)
+        self.assertEqual(found[38::8][:20], [[2]] * 20)
+        self.assertEqual(found[-2:], [[0], [-3]])
+
     def test_lists_of_30_that_are_refused_are_read_to_their_end(self):
         long = list(range(30))
         found = ask(*([trick(1, 1, long, long, long), reset(1, long, long), hall(1, 1, long), props(long),
-                       runs(long), start(long)] * 20 + [told()]))
-        self.assertEqual(found, [[-2]] * 120 + [[1, 2, 0, 0, 0, 0, 3]])
+                       runs(long), start(long), finish(long)] * 20 + [told()]))
+        self.assertEqual(found, [[-2]] * 140 + [[1, 2, 0, 0, 0, 0, 3]])
 
 
 if __name__ == "__main__":

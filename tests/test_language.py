@@ -19,6 +19,9 @@ rstrip setdefault split splitlines startswith strip update upper values zfill bi
 NO_WORDS = set("""type typing typing_extensions enum Enum IntEnum StrEnum Flag IntFlag Generic Protocol ABC ABCMeta
 namedtuple NamedTuple TypedDict TYPE_CHECKING abstractmethod""".split())
 
+WALKED = ("zip", "enumerate", "reversed", "range")
+WALKERS = ("list", "tuple", "dict", "sorted", "sum", "any", "all", "enumerate", "zip", "min", "max")
+
 NODES = (
     ast.Module, ast.ImportFrom, ast.alias, ast.FunctionDef, ast.arguments, ast.arg, ast.ClassDef, ast.Return,
     ast.Assign, ast.AugAssign, ast.For, ast.While, ast.If, ast.Raise, ast.Try, ast.ExceptHandler, ast.Expr, ast.Pass,
@@ -87,6 +90,9 @@ class Language(unittest.TestCase):
         for name_of_file, text, tree in own_files():
             with self.subTest(file=name_of_file):
                 defined = {node.name for node in tree.body if isinstance(node, (ast.FunctionDef, ast.ClassDef))}
+                for node in tree.body:
+                    if isinstance(node, ast.ImportFrom):
+                        defined |= {one.name for one in node.names}
                 for node in ast.walk(tree):
                     if isinstance(node, ast.Name) and isinstance(node.ctx, ast.Load) and hasattr(builtins, node.id):
                         self.assertIn(node.id, OWN_NAMES)
@@ -125,6 +131,32 @@ class Language(unittest.TestCase):
                 for node in ast.walk(tree):
                     if isinstance(node, ast.Call) and isinstance(node.func, ast.Attribute):
                         self.assertIn(node.func.attr, own | OWN_METHODS)
+
+    def test_methods_and_values_of_objects(self):
+        methods = set()
+        kept = set()
+        for name_of_file, text, tree in own_files():
+            for node in ast.walk(tree):
+                if isinstance(node, ast.ClassDef):
+                    methods |= {one.name for one in node.body if isinstance(one, ast.FunctionDef)}
+                if isinstance(node, ast.Attribute) and isinstance(node.ctx, ast.Store):
+                    kept.add(node.attr)
+        self.assertEqual(methods & kept, set())
+        for own in ("", 0, [], {}, set(), b"", ()):
+            self.assertEqual((methods | kept) & set(dir(own)) - {"__init__"}, set())
+
+    def test_what_is_walked_is_walked_at_once(self):
+        for name_of_file, text, tree in own_files():
+            with self.subTest(file=name_of_file):
+                on_the_spot = []
+                for node in ast.walk(tree):
+                    if isinstance(node, (ast.For, ast.comprehension)):
+                        on_the_spot.append(node.iter)
+                    if isinstance(node, ast.Call) and isinstance(node.func, ast.Name) and node.func.id in WALKERS:
+                        on_the_spot.extend(node.args[:1])
+                for node in ast.walk(tree):
+                    if isinstance(node, ast.Call) and isinstance(node.func, ast.Name) and node.func.id in WALKED:
+                        self.assertIn(node, on_the_spot)
 
 
 if __name__ == "__main__":

@@ -1,12 +1,12 @@
-"""start, begin, send."""
+"""start, begin, finish, close."""
 
 import random
 import unittest
 
-from helper import ask, begin, hall, last, plan, props, reset, runs, send, start, told, trick
-from cueshows.line import Line
-from cueshows.setup_calls import answer_hall, answer_reset, answer_trick
-from cueshows.show_calls import answer_begin, answer_send, answer_start
+from helper import (
+    ask, begin, behind, close, deliver, double, finish, glance, hall, last, log, lose, plan, props, reset, runs, send,
+    start, state, tick, told, trick, wire,
+)
 
 
 class Start(unittest.TestCase):
@@ -111,73 +111,232 @@ class Begin(unittest.TestCase):
 
 
 class BeginBehindOtherItems(unittest.TestCase):
-    """What begin says of items done, shown on the object itself."""
+    """What begin says of items done."""
 
-    def set_up(self):
-        line = Line()
-        answer_trick(line, 4, 2, [3], [0], [0])
-        answer_trick(line, 6, 2, [1], [0], [0])
-        answer_reset(line, 5, [3], [0])
-        answer_hall(line, 9, 0, [3])
-        answer_start(line, [0])
-        return line
+    # Trick 0 is always sure; trick 1 leaves what isn't sure for it any more; trick 2 is done by a cue or its rescue.
+    SET_UP = [props([3]), trick(4, 0, [7], [0], [0]), trick(6, 0, [1], [2], [0]), trick(3, 2, [7], [1], [6]),
+              reset(5, [7], [0])]
+
+    def on(self, limit):
+        return self.SET_UP + [hall(limit, 9, [1]), start([0])]
 
     def test_a_trick_that_was_done_is_refused_ahead_of_not_sure_and_the_limit(self):
-        line = self.set_up()
-        line.show.done = [1]
-        line.show.minutes = 9
-        self.assertEqual(answer_begin(line, 1), [-9])
-        self.assertEqual(answer_begin(line, 2), [-4])
-        line.show.done = []
-        self.assertEqual(answer_begin(line, 1), [-10])
-        self.assertEqual(answer_begin(line, 0), [-6])
+        self.assertEqual(behind(self.on(6), begin(1), finish([1]), begin(1), begin(0), begin(3), begin(8)),
+                         [[1], [0], [-9], [-6], [-4], [-6]])
+        self.assertEqual(behind(self.on(30), begin(1), finish([1]), begin(1), begin(0), finish([1]), begin(0)),
+                         [[1], [0], [-9], [2], [0], [-9]])
+
+    def test_a_trick_being_done_counts_as_done_only_when_it_is_finished(self):
+        self.assertEqual(behind(self.on(30), begin(0), begin(0), finish([1]), begin(0), finish([0]), begin(0)),
+                         [[1], [-5], [-8], [-5], [0], [-9]])
+
+    def test_a_trick_that_was_rescued_was_done(self):
+        self.assertEqual(behind(self.on(30), begin(2), tick(2), finish([2]), begin(2))[2:], [[1], [-9]])
 
     def test_a_reset_may_be_done_again(self):
-        line = self.set_up()
-        line.show.done = [8]
-        self.assertEqual(answer_begin(line, 8), [0])
+        self.assertEqual(behind(self.on(14), begin(8), finish([0]), begin(8), finish([0]), begin(8), begin(0), log()),
+                         [[0], [0], [0], [0], [-6], [1], [2, 8, -1, 0, 8, -1, 0]])
+
+    def test_a_new_show_may_do_it_again(self):
+        for anew in ([start([0])], [close(), start([0])]):
+            with self.subTest(anew=anew):
+                found = behind(self.on(6) + [begin(1), finish([1])], begin(1), *(anew + [begin(1)]))
+                self.assertEqual([found[0], found[-1]], [[-9], [1]])
 
     def test_minutes_of_all_items_done_count(self):
-        for minutes, answer in ((5, [1]), (6, [-6])):
-            line = self.set_up()
-            line.show.minutes = minutes
-            self.assertEqual(answer_begin(line, 0), answer)
+        for limit, answer in ((15, [2]), (14, [-6])):
+            with self.subTest(limit=limit):
+                calls = [begin(0), finish([0]), begin(8), finish([0]), state(), begin(1)]
+                self.assertEqual(behind(self.on(limit), *calls)[4:], [[-1, 1, 0, -1, 0, 9, 1], answer])
 
-    def test_serial_numbers_and_cue_numbers_go_on(self):
-        line = self.set_up()
-        answer_begin(line, 0)
-        self.assertEqual([answer_send(line, 30), answer_send(line, 40)], [[1], [2]])
-        line.show.done = [0]
-        line.show.doing = -1
-        line.show.beliefs = [1]
-        line.show.minutes = 3
-        self.assertEqual(answer_begin(line, 1), [2])
-        self.assertEqual(answer_send(line, 50), [1])
-        self.assertEqual([(cue.serial, cue.number, cue.value, cue.age) for cue in line.show.wire],
-                         [(1, 1, 30, 0), (1, 2, 40, 0), (2, 1, 50, 0)])
+    def test_minutes_of_the_item_being_done_are_no_minutes_done(self):
+        self.assertEqual(behind(self.on(15), begin(1), tick(9), state(), finish([1]), state())[2:],
+                         [[1, 1, 9, -1, 0, 0, 1], [0], [-1, 1, 0, -1, 0, 6, 2]])
+
+    def test_minutes_of_another_show_do_not_count(self):
+        self.assertEqual(behind(self.on(6), begin(1), finish([1]), start([0]), begin(0), finish([0]), close(),
+                                start([0]), begin(1))[3:], [[1], [0], [1], [0], [1]])
+
+    def test_serial_numbers_across_tricks_and_resets(self):
+        calls = [begin(8), finish([0]), begin(0), state(), finish([0]), begin(8), state(), finish([0]), begin(2),
+                 tick(2), finish([1]), begin(1), state(), begin(8), state()]
+        self.assertEqual(behind(self.on(60), *calls), [
+            [0], [0], [1], [0, 1, 0, -1, 0, 5, 1], [0], [0], [8, 1, 0, -1, 0, 9, 1], [0], [2],
+            [1, 0], [1], [-10], [-1, 2, 0, -1, 0, 17, 6], [0], [8, 2, 0, -1, 0, 17, 6]])
+
+    def test_a_refused_begin_uses_up_no_serial_number(self):
+        self.assertEqual(behind(self.on(7), begin(3), begin(14), begin(1), begin(1), finish([1]), begin(1), begin(0),
+                                begin(2), state()),
+                         [[-4], [-1], [1], [-5], [0], [-9], [-6], [-6], [-1, 1, 0, -1, 0, 6, 2]])
 
 
-class Send(unittest.TestCase):
+class Finish(unittest.TestCase):
 
-    def test_own_numbers_up_to_20_cues(self):
-        set_up = [trick(3, 2, [3], [1], [2]), hall(5, 0, [3]), start([0]), begin(0)]
-        found = ask(*(set_up + [send(value) for value in range(70, 90)] + [send(1), send(2)]))
-        self.assertEqual(found[4:], [[number] for number in range(1, 21)] + [[-7], [-7]])
+    # Of trick 0 (wait 3) prop 0 is left in 1 or 2, or by its rescue in 3; prop 1 as it was, or by its rescue in 0;
+    # prop 2 in 0, or by its rescue as it was.
+    SET_UP = [
+        props([4, 3, 2]),
+        trick(5, 3, [15, 7, 3], [6, 0, 1], [8, 1, 0]),
+        trick(7, 0, [15, 7, 3], [9, 0, 2], [4, 4, 1]),
+        reset(2, [15, 7, 3], [0, 5, 0]),
+        hall(60, 9, [15, 6, 3]),
+        start([0, 2, 1]),
+    ]
 
-    def test_a_refused_send_uses_up_no_number(self):
-        set_up = [trick(3, 2, [3], [1], [2]), hall(5, 0, [3]), start([0]), begin(0)]
-        self.assertEqual(ask(*(set_up + [send(0), send(100), send(-1), send(0)]))[4:], [[1], [-1], [-1], [2]])
+    def allowed(self, before, ends):
+        """finish answers -8 but for these ends, and the actual conditions are then those."""
+        for one in range(4):
+            for two in range(3):
+                for three in range(2):
+                    actual = [one, two, three]
+                    found = behind(before, finish(actual), glance(0), glance(1), glance(2), close())
+                    with self.subTest(actual=actual):
+                        if actual in ends:
+                            self.assertGreaterEqual(found[0][0], 0)
+                            self.assertEqual(found[1:], [[one], [two], [three], [1]])
+                        else:
+                            self.assertEqual(found, [[-8], [0], [2], [1], [0]])
 
-    def test_items_that_want_no_cue(self):
-        set_up = [trick(3, 0, [3], [1], [2]), reset(3, [3], [1]), trick(3, 1, [3], [1], [2]), hall(5, 0, [3])]
-        for item, answer in ((0, -11), (8, -11), (1, 1)):
-            with self.subTest(item=item):
-                self.assertEqual(last(*(set_up + [start([0]), begin(item), send(0)])), [answer])
+    def test_a_cue_was_taken(self):
+        before = self.SET_UP + [begin(0), send(8), deliver(0)]
+        self.assertEqual(behind(before, finish([1, 2, 0]), state(), log()),
+                         [[0], [-1, 1, 0, -1, 0, 5, 6, 6, 1], [1, 0, 8, 0]])
+        self.allowed(before, [[1, 2, 0], [2, 2, 0]])
 
-    def test_no_item_is_being_done(self):
-        set_up = [trick(9, 3, [3], [1], [2]), hall(5, 0, [3])]
-        self.assertEqual(ask(*(set_up + [send(0), start([0]), send(0), begin(0), send(0)]))[2:],
-                         [[-3], [0], [-5], [-6], [-5]])
+    def test_rescued(self):
+        before = self.SET_UP + [begin(0), tick(3)]
+        self.assertEqual(behind(before, finish([3, 0, 1]), state(), log()),
+                         [[1], [-1, 1, 0, -1, 0, 5, 8, 1, 3], [1, 0, -1, 1]])
+        self.allowed(before, [[3, 0, 1]])
+
+    def test_a_trick_that_wants_no_cue(self):
+        before = self.SET_UP + [begin(1), tick(30)]
+        self.assertEqual(behind(before, finish([3, 2, 1]), state(), log()),
+                         [[0], [-1, 1, 0, -1, 0, 7, 9, 6, 2], [1, 1, -1, 0]])
+        self.allowed(before, [[0, 2, 1], [3, 2, 1]])
+
+    def test_a_reset(self):
+        before = self.SET_UP + [begin(8)]
+        self.assertEqual(behind(before, finish([0, 0, 1]), state(), log()),
+                         [[0], [-1, 0, 0, -1, 0, 2, 15, 5, 3], [1, 8, -1, 0]])
+        self.allowed(before, [[0, 0, 1], [0, 2, 1]])
+
+    def test_neither_taken_nor_rescued(self):
+        wanted = self.SET_UP + [begin(0)]
+        earlier = self.SET_UP + [begin(8), finish([0, 2, 1]), begin(0)]
+        for before in (wanted, wanted + [tick(2)], wanted + [send(1)], wanted + [send(1), tick(2), lose(0)], earlier):
+            with self.subTest(before=before):
+                for actual in ([1, 2, 0], [3, 0, 1], [0, 0, 0]):
+                    self.assertEqual(behind(before, finish(actual), begin(0)), [[-13], [-5]])
+                self.assertEqual(behind(before, tick(3), finish([3, 0, 1]))[1], [1])
+                self.assertEqual(behind(before, send(4), deliver(0), finish([2, 2, 0]))[2], [0])
+
+    def test_only_cues_of_this_trick_help(self):
+        # Trick 0 is there twice.
+        set_up = self.SET_UP[:2] + self.SET_UP[1:2] + self.SET_UP[4:]
+        calls = [begin(0), send(1), double(0), deliver(0), finish([1, 2, 0]), begin(1), deliver(0), finish([1, 2, 0])]
+        self.assertEqual(behind(set_up, *calls)[3:], [[1, 1], [0], [2], [0], [-13]])
+
+    def test_0_is_as_it_was_when_it_was_begun_not_what_is_believed(self):
+        # Believed of prop 1 are 1 and 2; it is 2.
+        before = self.SET_UP + [begin(1)]
+        self.assertEqual(behind(before, finish([0, 1, 1]), finish([0, 2, 1]), glance(1)), [[-8], [0], [2]])
+        again = before + [finish([3, 2, 1]), begin(8), finish([3, 0, 1]), begin(8)]
+        self.assertEqual(behind(again, finish([0, 0, 1]), finish([3, 0, 0]), finish([3, 2, 1])), [[-8], [-8], [0]])
+
+    def test_beliefs_with_glances_meanwhile(self):
+        glances = [glance(0), glance(1), glance(2)]
+        taken = self.SET_UP + [begin(0), send(8), deliver(0)]
+        self.assertEqual(behind(taken + glances, finish([1, 2, 0]), state())[1], [-1, 1, 0, -1, 0, 5, 6, 4, 1])
+        rescued = self.SET_UP + [begin(0), tick(3)]
+        self.assertEqual(behind(rescued + glances, finish([3, 0, 1]), state())[1], [-1, 1, 0, -1, 0, 5, 8, 1, 2])
+        plain = self.SET_UP + [begin(1)]
+        self.assertEqual(behind(plain + glances, finish([3, 2, 1]), state())[1], [-1, 1, 0, -1, 0, 7, 9, 4, 2])
+        again = self.SET_UP + [begin(8)]
+        self.assertEqual(behind(again + glances, finish([0, 0, 1]), state())[1], [-1, 0, 0, -1, 0, 2, 1, 5, 2])
+
+    def test_beliefs_with_glances_ahead_of_it(self):
+        before = self.SET_UP + [glance(1), begin(0), tick(2), send(8), deliver(0)]
+        self.assertEqual(behind(before, finish([1, 2, 0]), state())[1], [-1, 1, 0, -1, 0, 5, 6, 4, 1])
+
+    def test_both_ways_are_believed_ahead_and_one_alone_behind(self):
+        self.assertEqual(last(*(self.SET_UP + [runs([0])])), [1, 5, 0, 14, 7, 3])
+        taken = [begin(0), send(8), deliver(0), finish([2, 2, 0])]
+        rescued = [begin(0), tick(4), finish([3, 0, 1])]
+        self.assertEqual(behind(self.SET_UP + taken, state())[0][6:], [6, 6, 1])
+        self.assertEqual(behind(self.SET_UP + rescued, state())[0][6:], [8, 1, 3])
+
+    def test_what_is_believed_behind_it_decides_what_is_sure(self):
+        set_up = [trick(1, 2, [3], [1], [2]), trick(1, 0, [1], [0], [0]), trick(1, 0, [2], [0], [0]), hall(60, 5, [3]),
+                  start([1])]
+        self.assertEqual(behind(set_up, begin(0), send(1), deliver(0), finish([0]), begin(2), begin(1))[4:],
+                         [[-10], [2]])
+        self.assertEqual(behind(set_up, begin(0), tick(2), finish([1]), begin(1), begin(2))[3:], [[-10], [2]])
+
+    def test_the_wire_stays(self):
+        before = self.SET_UP + [begin(0), send(8), tick(1), send(9), deliver(0)]
+        self.assertEqual(behind(before, wire(), finish([1, 2, 0]), wire()), [[1, 1, 2, 9, 0], [0], [1, 1, 2, 9, 0]])
+        before = self.SET_UP + [begin(0), send(8), tick(3), send(9)]
+        self.assertEqual(behind(before, finish([3, 0, 1]), wire()), [[1], [2, 1, 1, 8, 3, 1, 2, 9, 0]])
+
+    def test_no_item_is_being_done_behind_it(self):
+        before = self.SET_UP + [begin(8), finish([0, 0, 1])]
+        for call in (send(1), lose(0), double(0), deliver(0), tick(1), finish([0, 0, 1])):
+            with self.subTest(call=call):
+                self.assertEqual(last(*(before + [call])), [-5])
+
+    def test_what_is_told_and_planned_stays(self):
+        asked = [told(), runs([0, 8]), plan(200)]
+        found = behind(self.SET_UP, *(asked + [begin(8), finish([0, 0, 1]), glance(0)] + asked))
+        self.assertEqual(found[:3], found[-3:])
+
+
+class Close(unittest.TestCase):
+
+    SET_UP = [trick(3, 2, [3], [0], [2]), trick(4, 0, [3], [0], [0]), reset(2, [3], [0]), hall(12, 7, [3])]
+
+    def test_answers_how_many_items_were_done(self):
+        on = self.SET_UP + [start([0])]
+        self.assertEqual(behind(on, close()), [[0]])
+        self.assertEqual(behind(on, begin(8), finish([0]), close())[-1], [1])
+        self.assertEqual(behind(on, begin(8), finish([0]), begin(1), finish([0]), begin(8), finish([0]), close())[-1],
+                         [3])
+
+    def test_the_show_is_not_on_any_more(self):
+        calls = [begin(0), send(0), lose(0), double(0), deliver(0), tick(1), finish([0]), glance(0), state(), log(),
+                 wire(), close()]
+        for before in ([], [begin(8)], [begin(0), send(1)]):
+            with self.subTest(before=before):
+                found = behind(self.SET_UP + [start([0])] + before + [close()], *calls)
+                self.assertEqual(found, [[-3]] * len(calls))
+
+    def test_an_item_being_done_is_left(self):
+        calls = [begin(8), finish([0]), begin(0), send(5), send(6), close(), start([1]), state(), log(), wire(),
+                 begin(0), send(7), wire()]
+        self.assertEqual(behind(self.SET_UP + [start([0])], *calls)[5:], [
+            [1], [0], [-1, 0, 0, -1, 0, 0, 3], [0], [0], [1], [1], [1, 1, 1, 7, 0]])
+
+    def test_a_start_behind_it_finds_nothing_done(self):
+        calls = [begin(0), send(5), send(6), deliver(0), glance(0), finish([0]), begin(1), finish([0]), close(),
+                 start([1]), state(), log(), wire(), begin(1), state(), glance(0)]
+        self.assertEqual(behind(self.SET_UP + [start([0])], *calls)[8:], [
+            [2], [0], [-1, 0, 0, -1, 0, 0, 3], [0], [0], [1], [1, 1, 0, -1, 0, 0, 3], [1]])
+
+    def test_a_start_while_it_is_on_finds_nothing_done(self):
+        calls = [begin(0), send(5), send(6), deliver(0), glance(0), finish([0]), begin(0), begin(1), tick(3),
+                 start([1]), state(), log(), wire(), begin(0), state(), glance(0), close()]
+        self.assertEqual(behind(self.SET_UP + [start([0])], *calls)[6:], [
+            [-9], [2], [0, 1], [0], [-1, 0, 0, -1, 0, 0, 3], [0], [0], [1], [0, 1, 0, -1, 0, 0, 3], [1], [0]])
+
+    def test_calls_0_to_3_are_answered_again(self):
+        found = behind(self.SET_UP + [start([0]), begin(0), close()], trick(1, 0, [1], [0], [0]), reset(1, [1], [0]),
+                       hall(5, 5, [1]), told(), props([2, 2]), told())
+        self.assertEqual(found[:3] + found[4:], [[2], [1], [0], [2], [2, 2, 2, 0, 0, 0, 0, 3, 3]])
+        self.assertEqual(found[3], [1, 2, 3, 3, 2, 3, 0, 2, 4, 0, 3, 0, 0, 1, 0, 1, 0, 0, 2, 2, 3, 0, 1, 1, 0, 5, 5, 1])
+
+    def test_what_is_set_up_stays(self):
+        found = behind(self.SET_UP, told(), start([0]), glance(0), begin(8), finish([0]), close(), told())
+        self.assertEqual(found[0], found[-1])
 
 
 if __name__ == "__main__":
